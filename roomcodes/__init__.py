@@ -1,0 +1,1 @@
+"""Housekeeping: rooms by codes, work parted equally, differences told."""
