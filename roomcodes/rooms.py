@@ -44,6 +44,13 @@ class House:
         self.day = 0
 
 
+class Task:
+    def __init__(self, number, minutes, due):
+        self.number = number
+        self.minutes = minutes
+        self.due = due
+
+
 def forget_the_day(room):
     room.due = 0
     room.seen = NOTHING_SEEN
@@ -83,3 +90,24 @@ def difference_about(room):
     if not room.taken and room.seen == SOMEBODY_SEEN:
         return NOT_TAKEN_BUT_SOMEBODY
     return NO_DIFFERENCE
+
+
+def minutes_of(house, room):
+    if room.shut:
+        return 0
+    if room.state == DIRTY and room.taken:
+        return 0 if room.today == DECLINED_TODAY else house.light + room.extra
+    if room.state == DIRTY:
+        return house.heavy + room.extra
+    if room.state == CLEANED and not room.taken:
+        return house.check
+    return 0
+
+
+def tasks_of(house):
+    tasks = []
+    for number, room in enumerate(house.rooms):
+        minutes = minutes_of(house, room)
+        if minutes != 0:
+            tasks.append(Task(number, minutes, room.due))
+    return tasks

@@ -2,6 +2,8 @@
 
 Looked at here is what can be seen file by file: files and signs, imports, the top of a module,
 statements, expressions, names, methods and sizes. The number of the rule stands with each test.
+Where the package does without something that the rules would allow in some places (sets, errors,
+annotations, powers), it's looked at that it does without.
 """
 
 import ast
@@ -37,6 +39,12 @@ WORDS = re.compile(
     r"namedtuple|NamedTuple|TypedDict|TYPE_CHECKING|abstractmethod)\b|dataclass|overload|contextmanager")
 
 
+# What is walked on the spot, and what may walk it beside a loop.
+WALKED = ("zip", "enumerate", "reversed", "range")
+WALKERS = ("list", "tuple", "dict", "sorted", "sum", "any", "all", "enumerate", "zip")
+CHANGES = ("append", "clear", "extend", "insert", "pop", "remove", "reverse", "setdefault", "update")
+
+
 def trees():
     for path in FILES:
         yield path.name, ast.parse(path.read_text(encoding="ascii"))
@@ -57,6 +65,10 @@ def bound_names(node):
             yield inner.arg
         elif isinstance(inner, (ast.FunctionDef, ast.ClassDef)):
             yield inner.name
+
+
+def names_read(node):
+    return [inner.id for inner in ast.walk(node) if isinstance(inner, ast.Name) and isinstance(inner.ctx, ast.Load)]
 
 
 def is_plain(value, above):
@@ -185,10 +197,95 @@ class Code(unittest.TestCase):
                 self.assertIsInstance(node.comparators[0], ast.Constant, where)
 
 
+    def test_done_without_l4_l11_l13_l19_l21_l24_l27(self):
+        for where, node in nodes():
+            self.assertNotIsInstance(node, (ast.Set, ast.AnnAssign, ast.Try, ast.Raise, ast.Pow, ast.LShift), where)
+            if isinstance(node, ast.Name):
+                self.assertNotIn(node.id, ("set", "frozenset", "chr"), where)
+            if isinstance(node, ast.FunctionDef):
+                self.assertIsNone(node.returns, where)
+            if isinstance(node, ast.arg):
+                self.assertIsNone(node.annotation, where)
+            if isinstance(node, ast.Constant) and isinstance(node.value, str):
+                self.assertNotIn("%", node.value, where)
+
+    def test_no_function_calls_itself_l11(self):
+        for name, tree in trees():
+            for part in tree.body:
+                if isinstance(part, ast.FunctionDef):
+                    self.assertNotIn(part.name, names_read(part), f"{name}: {part.name}")
+
+    def test_classes_l18_l28(self):
+        found = [node for where, node in nodes()]
+        classes = {node.name for node in found if isinstance(node, ast.ClassDef)}
+        called = [node.func for node in found if isinstance(node, ast.Call)]
+        for node in found:
+            if isinstance(node, ast.Name) and node.id in classes:
+                self.assertIn(node, called, node.id)
+            if isinstance(node, ast.ClassDef):
+                self.assertEqual([part.name for part in node.body], ["__init__"], node.name)
+                self.assertFalse([one for one in ast.walk(node) if isinstance(one, ast.Return)], node.name)
+
+    def test_lists_and_dicts_of_a_files_top_are_only_read_l15(self):
+        for name, tree in trees():
+            kept = {part.targets[0].id for part in tree.body
+                    if isinstance(part, ast.Assign) and isinstance(part.value, (ast.List, ast.Dict))}
+            fine = set()
+            for node in ast.walk(tree):
+                if isinstance(node, ast.Subscript) and isinstance(node.ctx, ast.Load):
+                    fine.add(node.value)
+                elif isinstance(node, ast.Compare):
+                    fine.update(node.comparators)
+                elif isinstance(node, ast.Attribute) and node.attr == "get":
+                    fine.add(node.value)
+            for node in ast.walk(tree):
+                if isinstance(node, ast.Name) and node.id in kept and isinstance(node.ctx, ast.Load):
+                    self.assertIn(node, fine, f"{name}:{node.lineno}")
+
+    def test_keywords_l22(self):
+        allowed = {"sorted": {"key", "reverse"}, "min": {"key", "default"}, "max": {"key", "default"},
+                   "sum": {"start"}, "enumerate": {"start"}, "zip": {"strict"}}
+        for where, node in nodes():
+            if isinstance(node, ast.Call) and node.keywords:
+                self.assertIsInstance(node.func, ast.Name, where)
+                given = {one.arg for one in node.keywords}
+                self.assertLessEqual(given, allowed.get(node.func.id, set()), where)
+
+    def test_called_and_walked_on_the_spot_l22_l23_l25(self):
+        found = [node for where, node in nodes()]
+        called, walked = set(), set()
+        for node in found:
+            if isinstance(node, ast.Call):
+                called.add(node.func)
+                if isinstance(node.func, ast.Name) and node.func.id in WALKERS:
+                    walked.update(node.args)
+            elif isinstance(node, (ast.For, ast.comprehension)):
+                walked.add(node.iter)
+        for node in found:
+            if isinstance(node, ast.Name) and hasattr(builtins, node.id):
+                self.assertIn(node, called, f"{node.id} in row {node.lineno} is not called")
+            if isinstance(node, ast.Attribute) and node.attr in METHODS:
+                self.assertIn(node, called, f"{node.attr} in row {node.lineno} is not called")
+            if isinstance(node, ast.Call) and isinstance(node.func, ast.Name) and node.func.id in WALKED:
+                self.assertIn(node, walked, f"{node.func.id} in row {node.lineno} is kept")
+
+    def test_what_a_loop_walks_is_not_changed_in_it_l23(self):
+        for where, node in nodes():
+            if isinstance(node, ast.For):
+                walked = {ast.dump(one) for one in ast.walk(node.iter) if isinstance(one, (ast.Name, ast.Attribute))}
+                for inner in node.body:
+                    for one in ast.walk(inner):
+                        if isinstance(one, ast.Attribute) and one.attr in CHANGES:
+                            self.assertNotIn(ast.dump(one.value), walked, where)
+                        if isinstance(one, ast.Subscript) and isinstance(one.ctx, ast.Store):
+                            self.assertNotIn(ast.dump(one.value), walked, where)
+
+
 class Names(unittest.TestCase):
     def test_bound_names_l12_l15_l17(self):
         for name, tree in trees():
             own = {part.name for part in tree.body if isinstance(part, (ast.FunctionDef, ast.ClassDef))}
+            own.update(one.name for part in tree.body if isinstance(part, ast.ImportFrom) for one in part.names)
             for bound in bound_names(tree):
                 if bound != "__init__":
                     self.assertRegex(bound, r"^[A-Za-z][A-Za-z0-9_]*$", name)

@@ -1,29 +1,11 @@
-"""The values of a house and its rooms that the answers of the calls 0 to 10 don't show yet."""
+"""The values of the rooms and the day behind calls 0 to 10, as room and count show them."""
 
 import unittest
-from unittest import mock
 
-from roomcodes.calls import carry_out
-from roomcodes.house import answers
-from roomcodes.rooms import House, code_of
-from tests.helper import NIGHT, back, due, extra, guest_in, guest_out, inspect, move, report, shut
+from tests.helper import (
+    COUNT, NIGHT, ask, back, begin, due, extra, guest_in, guest_out, inspect, last, move, report, show, shut)
 
 VD, VC, VI, OD, OC, OO = range(6)
-
-
-def house_after(*calls):
-    house = House(3, 30, 20, 5)
-    for call in calls:
-        answer = carry_out(house, call[0], call[1:])
-        if answer[0] != 0:
-            raise AssertionError(f"{call} was refused: {answer}")
-    return house
-
-
-def values(room):
-    """Code, due, extra minutes, seen, today."""
-    return (code_of(room), room.due, room.extra, room.seen, room.today)
-
 
 # Calls behind which vacant room 0 has no value that is its zero value.
 MARKED = [guest_in(0), guest_out(0), extra(0, 9), due(0, 600), report(0, 0, 2)]
@@ -31,17 +13,16 @@ MARKED = [guest_in(0), guest_out(0), extra(0, 9), due(0, 600), report(0, 0, 2)]
 
 class Values(unittest.TestCase):
     def after(self, *calls):
-        return values(house_after(*calls).rooms[0])
+        """Code, due, extra minutes, seen, today of room 0; every call is accepted."""
+        told = ask(begin(), *calls, show(0))
+        self.assertEqual([answer for answer in told if answer[0] != 0], [])
+        self.assertEqual(len(told[-1]), 7)
+        return tuple(told[-1][1:6])
 
     def test_a_new_house(self):
-        house = house_after()
-        self.assertEqual((house.heavy, house.light, house.check, house.day), (30, 20, 5, 0))
-        self.assertEqual([values(room) for room in house.rooms], [(VI, 0, 0, 0, 0)] * 3)
-
-    def test_the_house_is_made_with_the_numbers_in_their_order(self):
-        with mock.patch("roomcodes.house.House") as made:
-            answers([0, 3, 31, 22, 13])
-        made.assert_called_once_with(3, 31, 22, 13)
+        self.assertEqual(
+            ask(begin(3), show(0), show(1), show(2), COUNT),
+            [[0]] + [[0, VI, 0, 0, 0, 0, 0]] * 3 + [[0, 0, 6, 0, 0, 3, 0, 0, 0]])
 
     def test_report(self):
         self.assertEqual(self.after(report(0, 0, 0)), (VI, 0, 0, 1, 0))
@@ -85,7 +66,7 @@ class Values(unittest.TestCase):
         self.assertEqual(self.after(due(0, 5), report(0, 1, 1), NIGHT), (VI, 0, 0, 0, 0))
         self.assertEqual(self.after(guest_in(0), report(0, 1, 1), NIGHT), (OD, 0, 0, 0, 0))
         self.assertEqual(self.after(extra(0, 9), shut(0), NIGHT), (OO, 0, 9, 0, 0))
-        self.assertEqual(house_after(NIGHT, NIGHT).day, 2)
+        self.assertEqual(last(begin(), NIGHT, NIGHT, COUNT)[1], 2)
 
     def test_a_refusal_leaves_every_value(self):
         for before, refused in (
@@ -95,11 +76,10 @@ class Values(unittest.TestCase):
                 ([extra(0, 9), shut(0)], [guest_in(0), guest_out(0), report(0, 1, 1), shut(0), due(0, 5)])):
             for call in refused:
                 with self.subTest(call):
-                    house = house_after(*before)
-                    was = [values(room) for room in house.rooms]
-                    self.assertEqual(carry_out(house, call[0], call[1:]), [-6])
-                    self.assertEqual([values(room) for room in house.rooms], was)
-                    self.assertEqual(house.day, house_after(*before).day)
+                    shown = [show(0), show(1), show(2), COUNT]
+                    told = ask(begin(), *before, *shown, call, *shown)
+                    self.assertEqual(told[-5], [-6])
+                    self.assertEqual(told[-4:], told[-9:-5])
 
 
 if __name__ == "__main__":
